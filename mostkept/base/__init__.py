@@ -1,0 +1,1 @@
+"""Rows of integers and scales of weights, on which all else stands."""

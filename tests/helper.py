@@ -1,0 +1,81 @@
+"""Values of many kinds, and checks that all tests share."""
+
+import doctest
+import unittest
+
+from mostkept.base.rows import pairs
+from mostkept.base.scales import Scale
+from mostkept.tables.tables import Table
+
+NAMES = ("hour", "room", "talk")
+PLAN_ROWS = ((1, 1, 5), (1, 1, 6), (1, 2, 6), (2, 1, 5))
+FORTY = 10 ** 40 - 1
+
+
+def plan():
+    return Table(NAMES, *PLAN_ROWS, weights=(3, 2, 2, 2))
+
+
+def nested(inner, wrap):
+    for _ in range(20):
+        inner = wrap(inner)
+    return inner
+
+
+def values():
+    """Return values of all the kinds of [0.4]; the tests name those that are right where they use them."""
+    return [
+        0, 1, 2, 3, 4, 5, 8, 9, 200, -1, FORTY, -FORTY, True, False, None,
+        "", "a", "b", "hour", "room", "self", "eightabc", "ninechars", "Hour", "hour1", "a b", "a\n", "\n", "~",
+        (), (0,), (1,), (2,), (-1,), (True,), (False,), (None,), ("1",), ((1,),), ([1],),
+        (0, 0), (1, 0), (0, 1), (1, 1), (2, 1), (4, 2), (1, 2), (3, 4), (1, True), (2, True), (1, "a"), (1, None),
+        (1, 1, 1), (1, 1, 5), (1, 1, True), (1, 1, "5"), (1, 1, 1, 1), (1, 1, 1, 1, 1), (FORTY, 1), (3, -1), (0, 1, 2, 3),
+        ("a",), ("b",), ("hour",), ("talk",), ("a", "b"), ("b", "a"), ("a", "a"), ("hour", "talk"), ("talk", "hour"),
+        ("a", 1), (1, "a"), ("Hour",), ("",), ("a", None), NAMES, tuple("abcdefgh"), tuple("abcdefghi"), (("a",), ("b",)),
+        [], [0], [1], [1, 1, 5], [1, 1], ["a"], ["hour"], [2, 1], [[]], [(1, 1, 5)], ((1, 1, 5), [1, 1, 5]),
+        ((1, 1, 5),), ((1, 1),), ((1, 1, 5), (1, 1, True)), ((1, 1, 5), None), PLAN_ROWS,
+        {}, {"hour": 1}, {"hour": "when"}, {1: "a"}, {None: 1}, {(): ()}, {"a": [1]},
+        nested((), lambda one: (one,)), nested([], lambda one: [one]), nested({}, lambda one: {"a": one}),
+        nested(1, lambda one: (one,)), nested("a", lambda one: (one,)),
+        Scale.sums(), Scale.classes(2), Scale.odds(), plan(), Table(("a",)), pairs((), (), ()), plan().where(),
+    ]
+
+
+def exactly(value, others):
+    """Return whether the value is one of the others: of the same kinds throughout, so not True for 1."""
+    return any(value is other or repr(value) == repr(other) for other in others)
+
+
+class Case(unittest.TestCase):
+
+    def raises(self, error, call, **kept):
+        """Check the very class of the error that the call raises, and what it keeps."""
+        with self.assertRaises(error) as caught:
+            call()
+        self.assertIs(caught.exception.__class__, error)
+        for name, value in kept.items():
+            found = getattr(caught.exception, name)
+            self.assertTrue(exactly(value, [found]), f"{name} is {found!r}, not {value!r}")
+
+    def refuses(self, error, call, right=(), keeps=None):
+        """Check that the call raises the error for all values but the right ones, and nothing for those."""
+        for value in values():
+            with self.subTest(value=repr(value)):
+                if exactly(value, right):
+                    call(value)
+                else:
+                    self.raises(error, lambda: call(value), **({keeps: value} if keeps else {}))
+
+    def accepts(self, call, right):
+        """Check that the call returns True for the right values, and False for all others."""
+        for value in values():
+            with self.subTest(value=repr(value)):
+                self.assertIs(call(value), exactly(value, right))
+
+    def examples(self, text, known):
+        """Run examples as they stand in the document."""
+        found = doctest.DocTestParser().get_doctest(text, dict(known), "DOC.md", None, 0)
+        self.assertGreater(len(found.examples), 0)
+        told = []
+        result = doctest.DocTestRunner(verbose=False).run(found, out=told.append)
+        self.assertEqual(result.failed, 0, "".join(told))

@@ -1,0 +1,101 @@
+"""The interface: each name stands where its section lists it, with the arguments that are written there."""
+
+import importlib
+import inspect
+import unittest
+
+FUNCTIONS = {
+    "mostkept.base.rows": {
+        "is_name": "(value)", "is_columns": "(value, *, least=0)", "is_row": "(columns, value)",
+        "values_at": "(columns, row, some)", "agreement": "(columns, row, other)",
+        "groups": "(columns, rows, some)", "pairs": "(columns, rows, some)",
+    },
+    "mostkept.base.scales": {
+        "odds_for": "(chance)", "chance_of": "(odds)", "chance_of_rows": "(weights, indices)",
+    },
+}
+METHODS = {
+    ("mostkept.base.scales", "Scale"): {
+        "plus": "(self, *amounts)", "plus_all": "(self, amounts)", "minus": "(self, amount, other)",
+        "negative": "(self, amount)", "twice": "(self, amount)", "is_less": "(self, amount, other)",
+        "sign": "(self, amount)", "greatest": "(self, *amounts)", "least": "(self, *amounts)",
+        "ranked": "(self, amounts)", "is_weight": "(self, value)", "is_amount": "(self, value)",
+    },
+    ("mostkept.tables.tables", "Table"): {
+        "__init__": "(self, columns, *rows, scale=None, weights=None)",
+        "weight": "(self, index)", "agreement": "(self, index, other)", "with_row": "(self, row, *, weight=None)",
+        "without": "(self, *indices)", "without_all": "(self, indices)", "only": "(self, *indices)",
+        "only_all": "(self, indices)", "weighted": "(self, index, weight)", "reordered": "(self, indices)",
+        "renamed": "(self, **columns)", "renamed_by": "(self, columns)", "amount_of": "(self, indices)",
+        "grouped": "(self, columns)", "where": "(self, **values)", "where_by": "(self, values)",
+    },
+}
+SIGNS = {
+    ("mostkept.base.scales", "Scale"): ("__contains__", "__eq__", "__str__"),
+    ("mostkept.tables.tables", "Table"): ("__getitem__", "__len__", "__contains__", "__eq__", "__str__", "__or__"),
+}
+PROPERTIES = {
+    ("mostkept.base.scales", "Scale"): ("word", "size", "zero", "one"),
+    ("mostkept.tables.tables", "Table"): ("columns", "rows", "weights", "scale", "total"),
+}
+OFF_THE_CLASS = {
+    ("mostkept.base.scales", "Scale"): {"sums": "()", "classes": "(size)", "odds": "()"},
+    ("mostkept.tables.tables", "Table"): {"of": "(columns, rows, *, scale=None, weights=None)"},
+}
+CONSTANTS = {
+    ("mostkept.base.scales", "MAX_SIZE"): 4, ("mostkept.base.scales", "MAX_ODDS"): 10 ** 6,
+    ("mostkept.tables.tables", "MAX_ROWS"): 200,
+}
+GENERATORS = (("mostkept.base.rows", "pairs"), ("mostkept.tables.tables", "Table.where"),
+              ("mostkept.tables.tables", "Table.where_by"))
+
+
+def class_of(place):
+    return getattr(importlib.import_module(place[0]), place[1])
+
+
+class InterfaceTest(unittest.TestCase):
+
+    def test_functions(self):
+        for module, functions in FUNCTIONS.items():
+            for name, arguments in functions.items():
+                found = getattr(importlib.import_module(module), name)
+                self.assertEqual((found.__module__, found.__name__), (module, name))
+                self.assertEqual(str(inspect.signature(found)), arguments, name)
+
+    def test_methods_stand_in_the_class_itself(self):
+        for place, methods in METHODS.items():
+            for name, arguments in methods.items():
+                found = vars(class_of(place))[name]
+                self.assertTrue(inspect.isfunction(found), name)
+                self.assertEqual(str(inspect.signature(found)), arguments, name)
+        for place, names in SIGNS.items():
+            self.assertEqual(class_of(place).__module__, place[0])
+            for name in names:
+                self.assertIn(name, vars(class_of(place)))
+
+    def test_properties(self):
+        for place, names in PROPERTIES.items():
+            for name in names:
+                self.assertIsInstance(vars(class_of(place))[name], property)
+
+    def test_methods_that_are_called_off_the_class(self):
+        for place, methods in OFF_THE_CLASS.items():
+            for name, arguments in methods.items():
+                self.assertIsInstance(vars(class_of(place))[name], (staticmethod, classmethod))
+                self.assertEqual(str(inspect.signature(getattr(class_of(place), name))), arguments, name)
+
+    def test_constants(self):
+        for (module, name), value in CONSTANTS.items():
+            self.assertEqual(getattr(importlib.import_module(module), name), value)
+
+    def test_generators(self):
+        for module, name in GENERATORS:
+            found = importlib.import_module(module)
+            for part in name.split("."):
+                found = getattr(found, part)
+            self.assertTrue(inspect.isgeneratorfunction(found), name)
+
+
+if __name__ == "__main__":
+    unittest.main()
