@@ -179,6 +179,12 @@ class AmountsTest(Case):
                 self.assertEqual(scale.twice(amount), sum_of(scale, (amount, amount)))
         self.assertEqual((SUMS.twice(3), Scale.classes(2).twice((1, -2)), ODDS.twice((3, 2))), (6, (2, -4), (9, 4)))
 
+    def test_there_are_no_halves(self):
+        for scale in SCALES:
+            doubled = [scale.twice(amount) for amount in SOME[scale.word]]
+            self.assertNotIn(scale.one, doubled)
+            self.assertEqual([name for name in dir(scale) if "half" in name or "halve" in name], [])
+
     def test_less_and_sign(self):
         for scale in SCALES:
             for amount, other in itertools.product(SOME[scale.word], repeat=2):
