@@ -5,11 +5,18 @@ import unittest
 
 from mostkept.base.rows import pairs
 from mostkept.base.scales import Scale
+from mostkept.rules.rules import Rules
 from mostkept.tables.tables import Table
 
 NAMES = ("hour", "room", "talk")
 PLAN_ROWS = ((1, 1, 5), (1, 1, 6), (1, 2, 6), (2, 1, 5))
 FORTY = 10 ** 40 - 1
+TALKS = Rules(("hour", "room", "talk"), (("hour", "room"), ("talk",)), (("talk",), ("hour", "room")))
+PLAN = Table(NAMES, *PLAN_ROWS, weights=(3, 2, 2, 2))
+PLACES = Rules(("item", "place", "team"), (("item",), ("place",)), (("team",), ("place",)))
+STOCK = Table(("item", "place", "team"), (1, 1, 1), (1, 2, 2), (2, 2, 1))
+NO_RULES, NO_COLUMNS, NO_PLACES = Rules(NAMES), Rules(()), Rules(PLACES.columns)
+KNOWN = {"TALKS": TALKS, "PLAN": PLAN, "PLACES": PLACES, "STOCK": STOCK, "Rules": Rules, "Table": Table, "Scale": Scale}
 
 
 def plan():
@@ -38,6 +45,14 @@ def values():
         nested((), lambda one: (one,)), nested([], lambda one: [one]), nested({}, lambda one: {"a": one}),
         nested(1, lambda one: (one,)), nested("a", lambda one: (one,)),
         Scale.sums(), Scale.classes(2), Scale.odds(), plan(), Table(("a",)), pairs((), (), ()), plan().where(),
+        PLAN, STOCK, TALKS, PLACES, NO_RULES, NO_COLUMNS, NO_PLACES,
+        ((), ()), ((), ("hour",)), ((), NAMES), (("hour",), ("hour",)), (("hour",), ("room",)), (("hour",), ()),
+        (("hour", "room"), ("talk",)), (("talk",), ("hour", "room")), (("talk",), ("room", "hour")),
+        (("room", "hour"), ("talk",)), (["hour"], ("room",)), (("hour",), ["room"]), [("hour",), ("room",)],
+        (("hour",), ("room",), ("talk",)), ((("hour",), ("room",)),), (("hour",), ("day",)), ((), ("hour", "hour")),
+        [0, 2], (0, True), {0: 1}, {(1,): 1}, {True: 0},
+        ("derived", ()), ("apart", (0, 0, 0), (0, 0, 1)), ("alike", (), ()), ("unlike", (0, 0, 0), (0, 0, 1)),
+        ("full", {}), ("full", {1: 0, 3: 0}), ("open", 1), ("open", True), ["open", 1],
     ]
 
 
@@ -57,18 +72,18 @@ class Case(unittest.TestCase):
             found = getattr(caught.exception, name)
             self.assertTrue(exactly(value, [found]), f"{name} is {found!r}, not {value!r}")
 
-    def refuses(self, error, call, right=(), keeps=None):
+    def refuses(self, error, call, right=(), keeps=None, more=()):
         """Check that the call raises the error for all values but the right ones, and nothing for those."""
-        for value in values():
+        for value in [*values(), *more]:
             with self.subTest(value=repr(value)):
                 if exactly(value, right):
                     call(value)
                 else:
                     self.raises(error, lambda: call(value), **({keeps: value} if keeps else {}))
 
-    def accepts(self, call, right):
+    def accepts(self, call, right, more=()):
         """Check that the call returns True for the right values, and False for all others."""
-        for value in values():
+        for value in [*values(), *more]:
             with self.subTest(value=repr(value)):
                 self.assertIs(call(value), exactly(value, right))
 

@@ -13,6 +13,23 @@ FUNCTIONS = {
     "mostkept.base.scales": {
         "odds_for": "(chance)", "chance_of": "(odds)", "chance_of_rows": "(weights, indices)",
     },
+    "mostkept.rules.closures": {
+        "closure": "(rules, *columns)", "closure_of": "(rules, columns)", "is_closed": "(rules, value)",
+        "closed_sets": "(rules)", "triggers": "(rules)", "follows": "(rules, rule)", "rule_paper": "(rules, rule)",
+        "is_rule_paper": "(rules, rule, value)", "typical_rows": "(rules)", "are_typical": "(rules, value)",
+    },
+    "mostkept.rules.covers": {
+        "are_alike": "(first, second)", "alike_paper": "(first, second)", "is_alike_paper": "(first, second, value)",
+        "lean_cover": "(rules)", "is_lean_cover": "(rules, value)", "is_key": "(rules, value)", "keys": "(rules)",
+        "key_columns": "(rules)",
+    },
+    "mostkept.tables.conflicts": {
+        "conflicts": "(table, rules)", "rivals": "(table, rules, index)",
+        "conflict_rule": "(table, rules, index, other)", "is_keep": "(table, rules, value)",
+        "is_full": "(table, rules, keep)", "filled": "(table, rules, keep)", "loss": "(table, rules, keep)",
+        "keeps": "(table, rules)", "full_keeps": "(table, rules)", "clusters": "(table, rules)",
+        "full_paper": "(table, rules, keep)", "is_full_paper": "(table, rules, keep, value)",
+    },
 }
 METHODS = {
     ("mostkept.base.scales", "Scale"): {
@@ -29,25 +46,37 @@ METHODS = {
         "renamed": "(self, **columns)", "renamed_by": "(self, columns)", "amount_of": "(self, indices)",
         "grouped": "(self, columns)", "where": "(self, **values)", "where_by": "(self, values)",
     },
+    ("mostkept.rules.rules", "Rules"): {
+        "__init__": "(self, columns, *rules)",
+        "with_rule": "(self, left, right)", "without_rule": "(self, left, right)", "struck": "(self, *columns)",
+        "struck_all": "(self, columns)", "renamed": "(self, **names)", "renamed_by": "(self, names)",
+    },
 }
 SIGNS = {
     ("mostkept.base.scales", "Scale"): ("__contains__", "__eq__", "__str__"),
     ("mostkept.tables.tables", "Table"): ("__getitem__", "__len__", "__contains__", "__eq__", "__str__", "__or__"),
+    ("mostkept.rules.rules", "Rules"): ("__len__", "__contains__", "__eq__", "__str__", "__or__"),
 }
 PROPERTIES = {
     ("mostkept.base.scales", "Scale"): ("word", "size", "zero", "one"),
     ("mostkept.tables.tables", "Table"): ("columns", "rows", "weights", "scale", "total"),
+    ("mostkept.rules.rules", "Rules"): ("columns", "rules", "plain"),
 }
 OFF_THE_CLASS = {
     ("mostkept.base.scales", "Scale"): {"sums": "()", "classes": "(size)", "odds": "()"},
     ("mostkept.tables.tables", "Table"): {"of": "(columns, rows, *, scale=None, weights=None)"},
+    ("mostkept.rules.rules", "Rules"): {"of": "(columns, rules)", "keyed": "(columns, *keys)",
+                                        "keyed_by": "(columns, keys)"},
 }
 CONSTANTS = {
     ("mostkept.base.scales", "MAX_SIZE"): 4, ("mostkept.base.scales", "MAX_ODDS"): 10 ** 6,
-    ("mostkept.tables.tables", "MAX_ROWS"): 200,
+    ("mostkept.tables.tables", "MAX_ROWS"): 200, ("mostkept.tables.conflicts", "MAX_LISTED"): 16,
+    ("mostkept.rules.rules", "MAX_COLUMNS"): 8, ("mostkept.rules.rules", "MAX_RULES"): 16,
 }
 GENERATORS = (("mostkept.base.rows", "pairs"), ("mostkept.tables.tables", "Table.where"),
-              ("mostkept.tables.tables", "Table.where_by"))
+              ("mostkept.tables.tables", "Table.where_by"), ("mostkept.rules.closures", "closed_sets"),
+              ("mostkept.rules.covers", "keys"), ("mostkept.tables.conflicts", "conflicts"),
+              ("mostkept.tables.conflicts", "keeps"), ("mostkept.tables.conflicts", "full_keeps"))
 
 
 def class_of(place):

@@ -137,7 +137,8 @@ class LanguageTest(unittest.TestCase):
 
     def test_builtins(self):
         for place, node in nodes(ast.Name):
-            if node.id in vars(builtins):
+            # The examples that other tests run leave a _ among the builtins.
+            if node.id in vars(builtins) and node.id != "_":
                 self.assertIn(node.id, BUILTINS, place)
                 self.assertIsInstance(node.ctx, ast.Load, place)
         for place, node in [*functions(), *nodes(ast.ClassDef)]:

@@ -1,7 +1,7 @@
 """Rows: tuples of integers, one for each column."""
 
 from mostkept.base.checks import ROW_LIMIT, are_whole, is_ascending, is_index
-from mostkept.errors import InvalidColumns, InvalidNumber, InvalidTable
+from mostkept.errors import InvalidColumns, InvalidNumber, InvalidOperation, InvalidTable, UnknownName
 
 LETTERS = "abcdefghijklmnopqrstuvwxyz"
 MOST_LETTERS = 8
@@ -34,6 +34,24 @@ def check_row(columns, row):
     """Raise InvalidTable if this is not a row of the columns, which are right."""
     if not are_whole(row, len(columns)):
         raise InvalidTable("a row is not a tuple with an integer for each column")
+
+
+def check_keys(columns, given):
+    """Raise InvalidOperation or UnknownName if this is not a dict whose keys are some of the columns."""
+    if not isinstance(given, dict) or not all([isinstance(key, str) for key in given]):
+        raise InvalidOperation("the argument is not a dict whose keys are strings")
+    unknown = [key for key in given if key not in columns]
+    if len(unknown) > 0:
+        raise UnknownName(min(unknown))
+
+
+def new_names(columns, names):
+    """Return the columns, each with the name that the dict has for it, in the order of the old names."""
+    check_keys(columns, names)
+    found = [names.get(name, name) for name in columns]
+    if not all([is_name(name) for name in found]) or len(set(found)) < len(found):
+        raise InvalidColumns("the new names are not different names")
+    return found
 
 
 def is_row(columns, value):

@@ -1,10 +1,9 @@
 """Tables: rows of integers under named columns, each row with a weight."""
 
 from mostkept.base.checks import are_indices, is_index, is_whole
-from mostkept.base.rows import agreement, check_columns, check_row, groups, is_name
+from mostkept.base.rows import agreement, check_columns, check_keys, check_row, groups, new_names
 from mostkept.base.scales import Scale
-from mostkept.errors import InvalidColumns, InvalidNumber, InvalidOperation, InvalidScale, InvalidTable
-from mostkept.errors import TooMany, UnknownName
+from mostkept.errors import InvalidNumber, InvalidOperation, InvalidScale, InvalidTable, TooMany
 
 MAX_ROWS = 200
 
@@ -143,11 +142,7 @@ class Table:
 
     def renamed_by(self, columns):
         """Return the table with new names for the columns that are keys of the dict."""
-        self._check_keys(columns)
-        names = [columns.get(name, name) for name in self._columns]
-        if not all([is_name(name) for name in names]):
-            raise InvalidColumns("a new name is not a name")
-        # Equal names are refused by the new table, as its columns are not ascending then.
+        names = new_names(self._columns, columns)
         places = [names.index(name) for name in sorted(names)]
         rows = tuple([tuple([row[at] for at in places]) for row in self._rows])
         return Table.of(tuple(sorted(names)), rows, scale=self._scale, weights=self._weights)
@@ -167,7 +162,7 @@ class Table:
 
     def where_by(self, values):
         """Yield the indices of the rows with these values in the columns that are keys of the dict."""
-        self._check_keys(values)
+        check_keys(self._columns, values)
         if not all([is_whole(values[name]) for name in values]):
             raise InvalidTable("a value is not an integer")
         wanted = [(self._columns.index(name), values[name]) for name in values]
@@ -192,10 +187,3 @@ class Table:
             raise InvalidOperation("the indices are not a tuple")
         for index in indices:
             self._check_index(index)
-
-    def _check_keys(self, given):
-        if not isinstance(given, dict) or not all([isinstance(key, str) for key in given]):
-            raise InvalidOperation("the argument is not a dict whose keys are strings")
-        unknown = [key for key in given if key not in self._columns]
-        if len(unknown) > 0:
-            raise UnknownName(min(unknown))

@@ -1,0 +1,1 @@
+"""Rules over columns, and what follows from them."""
