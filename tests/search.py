@@ -80,3 +80,66 @@ def some_table(columns, rows, values, scale, seed):
     chance = random.Random(seed)
     found = [tuple(chance.randint(1, values) for _ in columns) for _ in range(rows)]
     return Table(columns, *found, scale=scale, weights=tuple(some_weight(chance, scale) for _ in range(rows)))
+
+
+def all_steps(rules):
+    """Return the steps by the words of [0.13]."""
+    found = [("fixed", name) for name in led(rules, ()) if not holds(rules, ())]
+    open_sets = least_open(rules)
+    found += [("common", name) for name in rules.columns if open_sets and all(name in one for one in open_sets)]
+    if len(open_sets) == 2 and led(rules, open_sets[0]) == led(rules, open_sets[1]):
+        found.append(("pair", *open_sets))
+    return tuple(sorted(found))
+
+
+def struck_by(step):
+    return set(step[1] + step[2]) if step[0] == "pair" else {step[1]}
+
+
+def all_walks(rules):
+    """Return all sequences of steps that cannot be continued, each with the rules behind it."""
+    steps = all_steps(rules)
+    if not steps:
+        return [((), rules)]
+    return [((step,) + walk, end) for step in steps for walk, end in all_walks(rules.struck(*struck_by(step)))]
+
+
+def all_closed(rules):
+    return all(holds(rules, some) for some in all_sets(rules.columns))
+
+
+def all_chains(rules):
+    return sorted(walk for walk, end in all_walks(rules) if all_closed(end))
+
+
+SMALL = {
+    "labels": [("a", "c"), ("b", "c")], "row": [("a", "b"), ("b", "c")], "turn": [("ab", "c"), ("c", "b")],
+    "triangles": [("ab", "c"), ("ac", "b"), ("bc", "a")],
+}
+MAKINGS = ["", "a", "ab", "abc", "ac", "b", "bc", "c"]
+
+
+def translates(rules, problem, makings):
+    """Return whether the makings, in the order of the columns, are a witness by the words of [0.14]."""
+    for letters in set(MAKINGS) - {"abc"}:
+        closed = all(not set(left) <= set(letters) or right in letters for left, right in SMALL[problem])
+        some = tuple(name for name, making in zip(rules.columns, makings) if set(making) <= set(letters))
+        if holds(rules, some) != closed:
+            return False
+    return True
+
+
+def all_witnesses(rules):
+    return [("witness", problem, dict(zip(rules.columns, makings))) for problem in ("labels", "row", "turn", "triangles")
+            for makings in itertools.product(MAKINGS, repeat=len(rules.columns)) if translates(rules, problem, makings)]
+
+
+def all_matchings(worths):
+    return sorted(some for some in all_sets(sorted(worths))
+                  if len({left for left, _ in some}) == len({right for _, right in some}) == len(some))
+
+
+def some_worths(chance, scale, lefts, rights, most):
+    """Return worths between at most so many keys, with at most so many pairs."""
+    pairs = [((left,), (right, right)) for left in range(lefts) for right in range(rights)]
+    return {pair: some_weight(chance, scale) for pair in chance.sample(pairs, min(most, len(pairs)))}

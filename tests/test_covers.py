@@ -108,7 +108,8 @@ class AlikeTest(Case):
                 expected = (led(one, agreed) == agreed) != (led(two, agreed) == agreed)
                 self.assertIs(is_alike_paper(one, two, ("unlike", *rows)), expected)
                 self.assertIs(is_alike_paper(one, two, ("alike", *rows)), False)
-        for rows in (((1, 1, 1), (2, 2, True)), ((1, 1, 1), [2, 2, 1]), ((1, 1, 1), (2, 2)), ((1, 1, 1),),
+        for rows in (((1, 1, 1), (2, 2, True)), ((1, 1, True), (2, 2, 1)), ([1, 1, 1], (2, 2, 1)), (None, (2, 2, 1)),
+                     ((1, 1, 1), [2, 2, 1]), ((1, 1, 1), (2, 2)), ((1, 1, 1),),
                      ((1, 1, 1), (2, 2, 1), (2, 2, 1)), ((1, 1, 1), None), ()):
             self.assertIs(is_alike_paper(RING, Rules(ABC, *RING.rules[:2]), ("unlike", *rows)), False)
         self.assertIs(is_alike_paper(RING, Rules(ABC, *RING.rules[:2]), ("unlike", (1, 1, 1), (2, 2, 1))), True)

@@ -30,6 +30,27 @@ FUNCTIONS = {
         "keeps": "(table, rules)", "full_keeps": "(table, rules)", "clusters": "(table, rules)",
         "full_paper": "(table, rules, keep)", "is_full_paper": "(table, rules, keep, value)",
     },
+    "mostkept.orders.chains": {
+        "steps": "(rules)", "is_step": "(rules, value)", "behind": "(rules, *steps)", "behind_all": "(rules, steps)",
+        "chain": "(rules)", "is_chain": "(rules, value)", "chains": "(rules)", "rest": "(rules)", "chain_lengths": "(rules)",
+    },
+    "mostkept.orders.witnesses": {
+        "small_rules": "(problem)", "small_conflict": "(problem, letters)", "shared_columns": "(makings, letters)",
+        "is_witness": "(rules, value)", "witness": "(rules)", "witnesses": "(rules, *, problem=None)",
+        "order_paper": "(rules)", "is_order_paper": "(rules, value)",
+    },
+    "mostkept.keeps.matchings": {
+        "is_matching": "(scale, worths, value)", "are_prices": "(scale, worths, value)",
+        "greatest_matching": "(scale, worths)", "matching_paper": "(scale, worths)",
+        "is_matching_paper": "(scale, worths, value)", "sum_of_pairs": "(scale, worths, *pairs)",
+        "matchings": "(scale, worths, *, least=None)",
+    },
+    "mostkept.keeps.greatest": {
+        "greatest_keep": "(table, rules, *, along=None)", "least_loss": "(table, rules)",
+        "keep_paper": "(table, rules, *, along=None)", "is_keep_paper": "(table, rules, value)",
+        "is_part": "(table, rules, value)", "kept_by": "(table, rules, part)", "amount_of_part": "(table, rules, part)",
+        "is_greatest": "(table, rules, keep)", "steps_of": "(table, rules, paper)",
+    },
 }
 METHODS = {
     ("mostkept.base.scales", "Scale"): {
@@ -72,11 +93,15 @@ CONSTANTS = {
     ("mostkept.base.scales", "MAX_SIZE"): 4, ("mostkept.base.scales", "MAX_ODDS"): 10 ** 6,
     ("mostkept.tables.tables", "MAX_ROWS"): 200, ("mostkept.tables.conflicts", "MAX_LISTED"): 16,
     ("mostkept.rules.rules", "MAX_COLUMNS"): 8, ("mostkept.rules.rules", "MAX_RULES"): 16,
+    ("mostkept.orders.witnesses", "PROBLEMS"): ("labels", "row", "turn", "triangles"),
+    ("mostkept.keeps.matchings", "MAX_PAIRS"): 200,
 }
 GENERATORS = (("mostkept.base.rows", "pairs"), ("mostkept.tables.tables", "Table.where"),
               ("mostkept.tables.tables", "Table.where_by"), ("mostkept.rules.closures", "closed_sets"),
               ("mostkept.rules.covers", "keys"), ("mostkept.tables.conflicts", "conflicts"),
-              ("mostkept.tables.conflicts", "keeps"), ("mostkept.tables.conflicts", "full_keeps"))
+              ("mostkept.tables.conflicts", "keeps"), ("mostkept.tables.conflicts", "full_keeps"),
+              ("mostkept.orders.chains", "chains"), ("mostkept.orders.witnesses", "witnesses"),
+              ("mostkept.keeps.matchings", "matchings"), ("mostkept.keeps.greatest", "steps_of"))
 
 
 def class_of(place):

@@ -201,6 +201,46 @@ class LanguageTest(unittest.TestCase):
             self.assertNotIn(called, ("zip", "enumerate", "reversed", "range", "set"), place)
             self.assertNotIsInstance(node.value, ast.SetComp, place)
 
+    def test_what_is_iterated_at_once(self):
+        lazy = {"zip", "enumerate", "reversed", "range", "items", "values"}
+        generators = {node.name for _, node in functions() if is_generator(node)}
+        for path, tree in trees():
+            for node, parent in with_parents(tree):
+                name = called(node)
+                if name in lazy | generators:
+                    self.assertTrue(iterates(parent, node), f"{path}:{node.lineno} keeps or passes on {name}")
+                if name in generators:
+                    plain = (ast.Name, ast.Attribute, ast.Constant, ast.Tuple)
+                    self.assertTrue(all(isinstance(one, plain) for one in node.args), f"{path}:{node.lineno} {name}")
+
+    def test_stars_in_calls(self):
+        for place, node in nodes(ast.Call):
+            for one in node.args:
+                if isinstance(one, ast.Starred):
+                    self.assertIsInstance(one.value, ast.Name, place)
+            for one in node.keywords:
+                self.assertTrue(one.arg is not None or isinstance(one.value, ast.Name), place)
+
+
+def with_parents(tree):
+    return [(node, parent) for parent in ast.walk(tree) for node in ast.iter_child_nodes(parent)]
+
+
+def called(node):
+    if not isinstance(node, ast.Call):
+        return None
+    return getattr(node.func, "id", None) or getattr(node.func, "attr", None)
+
+
+def iterates(parent, node):
+    """Return whether the parent iterates over the node on the spot."""
+    if isinstance(parent, (ast.For, ast.comprehension)):
+        return parent.iter is node
+    if isinstance(parent, ast.Call):
+        return getattr(parent.func, "id", None) in {"list", "tuple", "dict", "sorted", "sum", "min", "max", "any", "all",
+                                                    "enumerate", "zip"}
+    return isinstance(parent, ast.YieldFrom)
+
 
 def is_text(node):
     return isinstance(node, ast.Expr) and isinstance(node.value, ast.Constant) and isinstance(node.value.value, str)

@@ -117,6 +117,9 @@ class KeyedTest(RulesCase):
         right = [(), *SIDES]
         self.refuses(InvalidColumns, Rules.keyed, COLUMNS)
         self.refuses(InvalidColumns, lambda value: Rules.keyed_by(value, ()), COLUMNS)
+        for value in values():
+            if not exactly(value, COLUMNS):
+                self.raises(InvalidColumns, lambda: Rules.keyed(value, ("a",)))
         self.refuses(InvalidColumns, lambda value: Rules.keyed(NAMES, value), right)
         self.refuses(InvalidColumns, lambda value: Rules.keyed(NAMES, ("talk",), value), right)
         self.refuses(InvalidColumns, lambda value: Rules.keyed_by(NAMES, (value,)), right)

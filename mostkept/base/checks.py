@@ -27,3 +27,17 @@ def are_indices(value, many):
 def is_ascending(values):
     """Return whether each value is less than the next one; all are of one kind."""
     return all([values[at] < values[at + 1] for at in range(len(values) - 1)])
+
+
+def is_exact(value):
+    """Return whether the value has no True and no False in it, which Python takes for 1 and 0."""
+    if isinstance(value, tuple):
+        return all([is_exact(one) for one in value])
+    return not isinstance(value, bool)
+
+
+def has_keys(value, keys):
+    """Return whether the value is a dict with exactly these different keys, which have no True and no False in them."""
+    if not isinstance(value, dict) or len(value) != len(keys):
+        return False
+    return all([is_exact(key) and key in keys for key in value])

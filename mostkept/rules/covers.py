@@ -91,7 +91,8 @@ def _shortened(rules):
             if is_within(right, reached(rules, less(left, (name,)))):
                 return others + [(less(left, (name,)), right)]
         for name in right:
-            shorter = others + [(left, one) for one in (less(right, (name,)),) if one != ()]
+            # With the last column of the right side the rule goes: what is left of it is not plain.
+            shorter = others + [(left, less(right, (name,)))]
             if name in reached(shorter, left):
                 return shorter
     return None

@@ -1,7 +1,7 @@
 """Conflicts of the rows of a table by rules, and the keeps, of whose rows no two conflict."""
 
-from mostkept.base.checks import are_indices, is_ascending, is_index, is_whole
-from mostkept.errors import InvalidKeep, InvalidNumber, InvalidOperation, InvalidTable, TooMany
+from mostkept.base.checks import are_indices, has_keys, is_ascending, is_exact, is_index
+from mostkept.errors import InvalidKeep, InvalidOperation, InvalidTable, TooMany
 from mostkept.rules.closures import agreed_by, breaks
 from mostkept.rules.forms import is_within
 from mostkept.rules.rules import check_rules
@@ -22,12 +22,6 @@ def check_both(table, rules):
     check_rules(rules)
     if table.columns != rules.columns:
         raise InvalidOperation("the rules are over other columns than the table")
-
-
-def check_index(table, index):
-    """Raise InvalidNumber if this is not the index of a row."""
-    if not is_index(index, len(table)):
-        raise InvalidNumber(index)
 
 
 def check_keep(table, rules, keep):
@@ -58,6 +52,7 @@ def _conflicts_among(table, rules, indices):
 
 def _rivals_among(table, rules, index, indices):
     """Return those of the indices whose rows conflict with this one."""
+    # The table raises the error of an index that is none.
     row = table[index]
     return tuple([other for other in indices if breaks(rules, agreed_by(table.columns, row, table[other]))])
 
@@ -65,7 +60,6 @@ def _rivals_among(table, rules, index, indices):
 def rivals(table, rules, index):
     """Return the indices of the rows that conflict with this one."""
     check_both(table, rules)
-    check_index(table, index)
     return _rivals_among(table, rules, index, tuple(range(len(table))))
 
 
@@ -81,9 +75,8 @@ def _all_rivals(table, rules):
 def conflict_rule(table, rules, index, other):
     """Return the first rule that the two rows break together, or None."""
     check_both(table, rules)
-    check_index(table, index)
-    check_index(table, other)
-    agreed = agreed_by(table.columns, table[index], table[other])
+    row = table[index]
+    agreed = agreed_by(table.columns, row, table[other])
     for left, right in rules.rules:
         if is_within(left, agreed) and not is_within(right, agreed):
             return (left, right)
@@ -214,9 +207,6 @@ def is_full_paper(table, rules, keep, value):
 
 def _are_stopped(table, rules, keep, value):
     """Return whether the value is a dict from each row outside of the keep to a row of it with which it conflicts."""
-    # Python takes True for 1 where it looks for keys and members, so the kinds are asked for first.
-    if not isinstance(value, dict) or not all([is_whole(one) for pair in value.items() for one in pair]):
-        return False
-    if sorted(value) != _others(table, keep):
+    if not has_keys(value, _others(table, keep)) or not all([is_exact(other) for other in value.values()]):
         return False
     return all([other in keep and not _is_free(table, rules, index, (other,)) for index, other in value.items()])

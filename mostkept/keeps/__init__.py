@@ -1,0 +1,1 @@
+"""Greatest keeps, with papers that show that they are greatest."""
