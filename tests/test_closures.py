@@ -246,6 +246,8 @@ class TypicalTest(Case):
         rules = Rules(ABC, (("a",), ("b",)))
         before = copy.deepcopy(rules)
         closure(rules, "a"), typical_rows(rules), rule_paper(rules, (("a",), ("b",)))
+        self.raises(UnknownName, lambda: closure(rules, "a", "z"), name="z")
+        self.raises(InvalidOperation, lambda: rule_paper(rules, (("a",), ("z",))))
         self.assertEqual((rules, rules.plain), (before, before.plain))
         self.assertEqual(typical_rows(rules), typical_rows(before))
 

@@ -197,6 +197,12 @@ class KeepsTest(Case):
     def test_nothing_changes(self):
         table, rules = copy.deepcopy(PLAN), copy.deepcopy(TALKS)
         list(full_keeps(table, rules)), full_paper(table, rules, (0,)), clusters(table, rules)
+        self.raises(InvalidKeep, lambda: filled(table, rules, (0, 1)))
+        self.raises(InvalidNumber, lambda: rivals(table, rules, 4), value=4)
+        paper = ("full", {3: 0, 1: 0})
+        self.assertIs(is_full_paper(table, rules, (0, 2), paper), True)
+        self.raises(InvalidKeep, lambda: is_full_paper(table, rules, [0, 2], paper))
+        self.assertEqual(list(paper[1].items()), [(3, 0), (1, 0)])
         self.assertEqual((table, rules, rules.plain), (PLAN, TALKS, TALKS.plain))
 
 

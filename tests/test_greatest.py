@@ -331,6 +331,8 @@ class PapersTest(Case):
                       PLAN_PART[:3] + (list(PLAN_PART[3]),) + PLAN_PART[4:], PLAN_PART[:6] + ({**PLAN_PARTS, ((1, 1), (7,)): ALL},),
                       PLAN_PART[:1] + (("talk",), ("hour", "room")) + PLAN_PART[3:]):
             self.assertIs(is_part(PLAN, TALKS, wrong), False)
+            for indices in ((0, 2), (), None):
+                self.assertIs(is_keep_paper(PLAN, TALKS, ("keep", indices, wrong)), False)
             self.raises(InvalidOperation, lambda: kept_by(PLAN, TALKS, wrong))
             self.raises(InvalidOperation, lambda: amount_of_part(PLAN, TALKS, wrong))
             self.raises(InvalidOperation, lambda: next(steps_of(PLAN, TALKS, ("keep", (0, 2), wrong))))
@@ -411,6 +413,8 @@ class WrongTest(Case):
         table, rules, paper = copy.deepcopy(PLAN), copy.deepcopy(TALKS), ("keep", (0, 2), copy.deepcopy(PLAN_PART))
         keep_paper(table, rules)[2][4].clear()
         is_keep_paper(table, rules, paper), list(steps_of(table, rules, paper)), kept_by(table, rules, paper[2])
+        self.raises(InvalidOperation, lambda: kept_by(table, rules, paper))
+        self.raises(InvalidStep, lambda: keep_paper(table, rules, along=(PAIR, PAIR)))
         self.assertEqual((table, rules, paper), (PLAN, TALKS, ("keep", (0, 2), PLAN_PART)))
         self.assertIs(is_keep_paper(table, rules, keep_paper(table, rules)), True)
 

@@ -278,6 +278,8 @@ class WrongTest(Case):
     def test_nothing_changes(self):
         worths = copy.deepcopy(WORTHS)
         matching_paper(SUMS, worths), list(matchings(SUMS, worths)), is_matching_paper(SUMS, worths, PAPER)
+        self.raises(InvalidOperation, lambda: sum_of_pairs(SUMS, worths, A, None))
+        self.raises(InvalidOperation, lambda: matching_paper(ODDS, worths))
         self.assertEqual((worths, list(worths)), (WORTHS, list(WORTHS)))
         first = matching_paper(SUMS, worths)
         first[2].clear()

@@ -162,6 +162,12 @@ class WitnessTest(Case):
         self.accepts(lambda value: is_witness(TALKS, value), [])
         self.accepts(lambda value: is_witness(NO_COLUMNS, value), [])
 
+    def test_exactly_the_columns_of_the_rules(self):
+        free = Rules(PLACES.columns + ("zone",), *PLACES.rules)
+        self.assertIs(is_witness(free, ("witness", "labels", {**MADE, "zone": "abc"})), True)
+        for wrong in (MADE, {**MADE, "zoo": "abc"}, {**MADE, "zone": "abc", "zoo": "abc"}, {**MADE, 1: "abc"}, {**MADE, (): "abc"}):
+            self.assertIs(is_witness(free, ("witness", "labels", wrong)), False)
+
     def test_values_that_are_order_papers(self):
         paper = ("chain", (PAIR,))
         self.accepts(lambda value: is_order_paper(TALKS, value), [paper], [paper])

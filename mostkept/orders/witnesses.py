@@ -128,7 +128,7 @@ def _two_sides(rules, first, second):
     if not leads and not back:
         sides = [(first, "a"), (second, "b"), (_common(beyond, other), "c"), (beyond, "ac"), (other, "bc")]
         return ("labels", sides)
-    if leads and not back:
+    if not back:
         return ("row", [(first, "a"), (second, "b"), (other, "bc")])
     if leads and len(alone) > 0:
         return ("turn", [(alone, "a"), (first, "b"), (second, "c"), (other, "bc")])
