@@ -16,6 +16,7 @@ PLAN = Table(NAMES, *PLAN_ROWS, weights=(3, 2, 2, 2))
 PLACES = Rules(("item", "place", "team"), (("item",), ("place",)), (("team",), ("place",)))
 STOCK = Table(("item", "place", "team"), (1, 1, 1), (1, 2, 2), (2, 2, 1))
 NO_RULES, NO_COLUMNS, NO_PLACES = Rules(NAMES), Rules(()), Rules(PLACES.columns)
+ALL = ("all",)
 KNOWN = {"TALKS": TALKS, "PLAN": PLAN, "PLACES": PLACES, "STOCK": STOCK, "Rules": Rules, "Table": Table, "Scale": Scale}
 
 
@@ -59,6 +60,42 @@ def values():
 def exactly(value, others):
     """Return whether the value is one of the others: of the same kinds throughout, so not True for 1."""
     return any(value is other or repr(value) == repr(other) for other in others)
+
+
+def can_be_key(value):
+    return all(can_be_key(one) for one in value) if isinstance(value, tuple) else not isinstance(value, (list, dict))
+
+
+def otherwise(value):
+    """Yield values that are the same but for one thing, somewhere in it."""
+    if isinstance(value, tuple):
+        yield list(value)
+        yield value + (value[-1] if value else 0,)
+        for at in range(len(value)):
+            yield value[:at] + value[at + 1:]
+            for one in otherwise(value[at]):
+                yield value[:at] + (one,) + value[at + 1:]
+        if len(value) > 1 and value != value[::-1]:
+            yield value[::-1]
+    elif isinstance(value, dict):
+        yield tuple(value.items())
+        yield {**value, "key": ALL}
+        for key in value:
+            yield {one: value[one] for one in value if one != key}
+            for one in otherwise(value[key]):
+                yield {**value, key: one}
+            for one in otherwise(key):
+                if can_be_key(one):
+                    yield {one if two == key else two: value[two] for two in value}
+    elif isinstance(value, int):
+        yield from (value + 1, value - 1, value == 1, str(value), None, (value,), [value])
+    else:
+        yield from (str(value) + "x", None, 1, (value,))
+
+
+def plain(value):
+    """Return whether the value is an integer or a tuple of such, without True and False."""
+    return all(plain(one) for one in value) if isinstance(value, tuple) else type(value) is int
 
 
 class Case(unittest.TestCase):

@@ -14,7 +14,7 @@ from mostkept.orders.witnesses import is_witness
 from mostkept.rules.rules import Rules
 from mostkept.tables.conflicts import clusters, is_full, is_keep, rivals
 from mostkept.tables.tables import Table
-from tests.helper import KNOWN, NO_PLACES, NO_RULES, PLACES, PLAN, STOCK, TALKS, Case, values
+from tests.helper import ALL, KNOWN, NO_PLACES, NO_RULES, PLACES, PLAN, STOCK, TALKS, Case, otherwise, plain, values
 from tests.search import SCALES, all_closed, all_keeps, all_steps, lost, small_rules, some_rules, some_table, struck_by
 
 EXAMPLES = """
@@ -26,7 +26,6 @@ EXAMPLES = """
 >>> [is_keep_paper(PLAN, TALKS, ("keep", (0, 2), part)), kept_by(PLAN, TALKS, part), amount_of_part(PLAN, TALKS, part)]
 [True, (0, 2), 5]
 """
-ALL = ("all",)
 PAIR = ("pair", ("hour", "room"), ("talk",))
 PLAN_PARTS = {((1, 1), (5,)): ALL, ((1, 1), (6,)): ALL, ((1, 2), (6,)): ALL, ((2, 1), (5,)): ALL}
 PLAN_PART = PAIR + ((((1, 1), (5,)), ((1, 2), (6,))), {(1, 1): 0, (1, 2): 0, (2, 1): 0}, {(5,): 3, (6,): 2}, PLAN_PARTS)
@@ -71,37 +70,6 @@ def any_part(table, rules, indices, chance):
         return step + (value, parts), made[value][1] if best else ()
     paper = matching_paper(table.scale, worths)
     return step + paper[1:] + (parts,), tuple(sorted(index for key in paper[1] for index in made[key][1]))
-
-
-def can_be_key(value):
-    return all(can_be_key(one) for one in value) if isinstance(value, tuple) else not isinstance(value, (list, dict))
-
-
-def otherwise(value):
-    """Yield values that are the same but for one thing, somewhere in it."""
-    if isinstance(value, tuple):
-        yield list(value)
-        yield value + (value[-1] if value else 0,)
-        for at in range(len(value)):
-            yield value[:at] + value[at + 1:]
-            for one in otherwise(value[at]):
-                yield value[:at] + (one,) + value[at + 1:]
-        if len(value) > 1 and value != value[::-1]:
-            yield value[::-1]
-    elif isinstance(value, dict):
-        yield tuple(value.items())
-        yield {**value, "key": ALL}
-        for key in value:
-            yield {one: value[one] for one in value if one != key}
-            for one in otherwise(value[key]):
-                yield {**value, key: one}
-            for one in otherwise(key):
-                if can_be_key(one):
-                    yield {one if two == key else two: value[two] for two in value}
-    elif isinstance(value, int):
-        yield from (value + 1, value - 1, value == 1, str(value), None, (value,), [value])
-    else:
-        yield from (str(value) + "x", None, 1, (value,))
 
 
 class GreatestTest(Case):
@@ -417,11 +385,6 @@ class WrongTest(Case):
         self.raises(InvalidStep, lambda: keep_paper(table, rules, along=(PAIR, PAIR)))
         self.assertEqual((table, rules, paper), (PLAN, TALKS, ("keep", (0, 2), PLAN_PART)))
         self.assertIs(is_keep_paper(table, rules, keep_paper(table, rules)), True)
-
-
-def plain(value):
-    """Return whether the value is an integer or a tuple of such, without True and False."""
-    return all(plain(one) for one in value) if isinstance(value, tuple) else type(value) is int
 
 
 if __name__ == "__main__":

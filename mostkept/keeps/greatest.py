@@ -29,7 +29,7 @@ def keep_paper(table, rules, *, along=None):
         raise InvalidStep("the steps to go along are not a chain of the rules")
     check_chained(rules)
     taken = chain(rules) if along is None else along
-    part, kept = _best_part(table, taken, _all_indices(table))
+    part, kept = best_part(table, taken, _all_indices(table))
     return ("keep", kept, part)
 
 
@@ -37,13 +37,13 @@ def _all_indices(table):
     return tuple(range(len(table)))
 
 
-def _best_part(table, taken, indices):
+def best_part(table, taken, indices):
     """Return a part that keeps the most of these rows by the steps, and the rows that stay by it."""
     if taken == ():
         return ("all",), indices
     step = taken[0]
     grouped = _grouped(table, step, indices)
-    found = {key: _best_part(table, taken[1:], grouped[key]) for key in grouped}
+    found = {key: best_part(table, taken[1:], grouped[key]) for key in grouped}
     parts = {key: found[key][0] for key in found}
     kept = {key: found[key][1] for key in found}
     if step[0] == "common":

@@ -63,7 +63,7 @@ def rivals(table, rules, index):
     return _rivals_among(table, rules, index, tuple(range(len(table))))
 
 
-def _all_rivals(table, rules):
+def all_rivals(table, rules):
     """Return the list of the rivals of each row."""
     found = [[] for _ in table.rows]
     for index, other in conflicts(table, rules):
@@ -134,7 +134,7 @@ def loss(table, rules, keep):
 def keeps(table, rules):
     """Yield all keeps in Python's order."""
     check_listed(table, rules)
-    against = _all_rivals(table, rules)
+    against = all_rivals(table, rules)
     yield from _keeps_from(against, ())
 
 
@@ -158,7 +158,7 @@ def _keeps_from(against, keep):
 def full_keeps(table, rules):
     """Yield all full keeps in Python's order."""
     check_listed(table, rules)
-    against = _all_rivals(table, rules)
+    against = all_rivals(table, rules)
     for keep in _keeps_from(against, ()):
         if all([index in keep or any([other in keep for other in found]) for index, found in enumerate(against)]):
             yield keep
@@ -167,7 +167,7 @@ def full_keeps(table, rules):
 def clusters(table, rules):
     """Return the clusters of the table, ascending."""
     check_both(table, rules)
-    against = _all_rivals(table, rules)
+    against = all_rivals(table, rules)
     found = []
     for index in range(len(table)):
         if not any([index in cluster for cluster in found]):

@@ -1,0 +1,1 @@
+"""Advice on rules, and live tables, whose edits can be taken back."""
