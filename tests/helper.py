@@ -5,8 +5,13 @@ import unittest
 
 from mostkept.base.rows import pairs
 from mostkept.base.scales import Scale
+from mostkept.errors import Chainless, InvalidOperation, InvalidRules, InvalidTable
+from mostkept.keeps.best import Ranking
+from mostkept.live.live import Live
+from mostkept.orders.witnesses import is_witness
 from mostkept.rules.rules import Rules
 from mostkept.tables.tables import Table
+from mostkept.text.shell import Shell
 
 NAMES = ("hour", "room", "talk")
 PLAN_ROWS = ((1, 1, 5), (1, 1, 6), (1, 2, 6), (2, 1, 5))
@@ -54,6 +59,9 @@ def values():
         [0, 2], (0, True), {0: 1}, {(1,): 1}, {True: 0},
         ("derived", ()), ("apart", (0, 0, 0), (0, 0, 1)), ("alike", (), ()), ("unlike", (0, 0, 0), (0, 0, 1)),
         ("full", {}), ("full", {1: 0, 3: 0}), ("open", 1), ("open", True), ["open", 1],
+        ("keep", (), ALL), ("half", (), {}), ("ranked", (), {}), ("chain", ()), ("drop", 0), (ALL,),
+        "none ", "-", "names ", "0 -> 0", "columns hour", "no steps", "3:2", "1/2", "keep none\nall", "halves -",
+        Live(PLAN, TALKS), Ranking(PLAN, TALKS), Shell(), Live(PLAN, TALKS).trial(), Ranking(PLAN, TALKS).within(1),
     ]
 
 
@@ -117,6 +125,30 @@ class Case(unittest.TestCase):
                     call(value)
                 else:
                     self.raises(error, lambda: call(value), **({keeps: value} if keeps else {}))
+
+    def chainless(self, rules, call):
+        """Check that the call raises Chainless with a witness of the rules."""
+        with self.assertRaises(Chainless) as caught:
+            call()
+        self.assertIs(is_witness(rules, caught.exception.witness), True)
+
+    def checks_both(self, *calls):
+        """Check that each call of a table and rules refuses what is none of them, the table first, and other columns."""
+        for call in calls:
+            for value in values():
+                if not isinstance(value, Table):
+                    self.raises(InvalidTable, lambda: call(value, TALKS))
+                    self.raises(InvalidTable, lambda: call(value, None))
+                if not isinstance(value, Rules):
+                    self.raises(InvalidRules, lambda: call(PLAN, value))
+            self.raises(InvalidOperation, lambda: call(PLAN, PLACES))
+            self.raises(InvalidOperation, lambda: call(STOCK, NO_RULES))
+
+    def checks_rules(self, call):
+        """Check that a call of rules refuses what is none."""
+        for value in values():
+            if not isinstance(value, Rules):
+                self.raises(InvalidRules, lambda: call(value))
 
     def accepts(self, call, right, more=()):
         """Check that the call returns True for the right values, and False for all others."""
