@@ -51,6 +51,37 @@ FUNCTIONS = {
         "is_part": "(table, rules, value)", "kept_by": "(table, rules, part)", "amount_of_part": "(table, rules, part)",
         "is_greatest": "(table, rules, keep)", "steps_of": "(table, rules, paper)",
     },
+    "mostkept.keeps.sure": {
+        "greatest_with": "(table, rules, *, stay=(), go=())", "loss_with": "(table, rules, *, stay=(), go=())",
+        "row_prices": "(table, rules, index)", "row_kind": "(table, rules, index)", "row_kinds": "(table, rules)",
+        "row_paper": "(table, rules, index)", "is_row_paper": "(table, rules, index, value)",
+    },
+    "mostkept.keeps.best": {
+        "best_first": "(table, rules, *, stay=(), go=())", "loss_levels": "(table, rules, *, stay=(), go=())",
+        "is_ranking_paper": "(table, rules, value, *, stay=(), go=())",
+    },
+    "mostkept.hard.translations": {
+        "translated": "(rules, witness, small)", "is_choices": "(problem, value)",
+        "choices_of": "(problem, small, keep)", "agreeing": "(problem, small, choices)",
+        "answered": "(rules, witness, small, server)", "triangle_table": "(first, second, third)",
+        "first_greatest": "(problem, small)",
+    },
+    "mostkept.hard.halves": {
+        "half_paper": "(table, rules)", "is_half_paper": "(table, rules, value)", "doubled_bound": "(table, rules)",
+        "settled": "(table, rules, paper)", "near_keep": "(table, rules)", "exact_keep": "(table, rules)",
+    },
+    "mostkept.live.advice": {
+        "loose_selections": "(rules)", "least_dropped": "(rules)", "is_loosening": "(rules, value)",
+        "loosening_sets": "(rules)", "group_losses": "(table, rules, columns)", "rule_prices": "(table, rules)",
+        "cheapest_selection": "(table, rules)",
+    },
+    "mostkept.text.formats": {
+        "format_table": "(table)", "format_rules": "(rules)", "format_steps": "(steps)", "format_order": "(paper)",
+        "format_keep": "(keep)", "format_amount": "(scale, amount)", "format_keep_paper": "(scale, paper)",
+        "format_half_paper": "(scale, paper)", "parse_table": "(text)", "parse_rules": "(text)",
+        "parse_steps": "(text)", "parse_order": "(text)", "parse_keep": "(text)", "parse_amount": "(scale, text)",
+        "parse_keep_paper": "(scale, text)", "parse_half_paper": "(scale, text)",
+    },
 }
 METHODS = {
     ("mostkept.base.scales", "Scale"): {
@@ -72,22 +103,43 @@ METHODS = {
         "with_rule": "(self, left, right)", "without_rule": "(self, left, right)", "struck": "(self, *columns)",
         "struck_all": "(self, columns)", "renamed": "(self, **names)", "renamed_by": "(self, names)",
     },
+    ("mostkept.keeps.best", "Ranking"): {
+        "__init__": "(self, table, rules, *, stay=(), go=())",
+        "next_keep": "(self)", "take": "(self, many)", "within": "(self, amount)", "paper_so_far": "(self)", "twin": "(self)",
+    },
+    ("mostkept.live.live", "Live"): {
+        "__init__": "(self, table, rules)",
+        "order_paper": "(self)", "least_loss": "(self)", "greatest_keep": "(self)", "keep_paper": "(self)",
+        "bounds": "(self)", "apply": "(self, *edits)", "apply_all": "(self, edits)", "undo": "(self, many=1)",
+        "redo": "(self, many=1)", "effect": "(self, *edits)", "effect_all": "(self, edits)", "worth": "(self, index)",
+        "losses": "(self)", "trial": "(self)", "during": "(self, call)", "branch": "(self)",
+    },
+    ("mostkept.text.shell", "Shell"): {
+        "__init__": "(self)",
+        "run": "(self, line)", "run_all": "(self, lines)", "tried": "(self, line)", "branch_of": "(self, name)",
+    },
 }
 SIGNS = {
     ("mostkept.base.scales", "Scale"): ("__contains__", "__eq__", "__str__"),
     ("mostkept.tables.tables", "Table"): ("__getitem__", "__len__", "__contains__", "__eq__", "__str__", "__or__"),
     ("mostkept.rules.rules", "Rules"): ("__len__", "__contains__", "__eq__", "__str__", "__or__"),
+    ("mostkept.keeps.best", "Ranking"): ("__bool__", "__len__", "__eq__", "__str__"),
+    ("mostkept.live.live", "Live"): ("__len__", "__eq__", "__str__"),
+    ("mostkept.text.shell", "Shell"): ("__getitem__", "__contains__", "__len__", "__eq__", "__str__"),
 }
 PROPERTIES = {
     ("mostkept.base.scales", "Scale"): ("word", "size", "zero", "one"),
     ("mostkept.tables.tables", "Table"): ("columns", "rows", "weights", "scale", "total"),
     ("mostkept.rules.rules", "Rules"): ("columns", "rules", "plain"),
+    ("mostkept.keeps.best", "Ranking"): ("table", "rules", "wish", "told", "loss"),
+    ("mostkept.live.live", "Live"): ("table", "rules"), ("mostkept.text.shell", "Shell"): ("names", "log"),
 }
 OFF_THE_CLASS = {
     ("mostkept.base.scales", "Scale"): {"sums": "()", "classes": "(size)", "odds": "()"},
     ("mostkept.tables.tables", "Table"): {"of": "(columns, rows, *, scale=None, weights=None)"},
     ("mostkept.rules.rules", "Rules"): {"of": "(columns, rules)", "keyed": "(columns, *keys)",
                                         "keyed_by": "(columns, keys)"},
+    ("mostkept.text.shell", "Shell"): {"of_log": "(lines)"},
 }
 CONSTANTS = {
     ("mostkept.base.scales", "MAX_SIZE"): 4, ("mostkept.base.scales", "MAX_ODDS"): 10 ** 6,
@@ -95,13 +147,19 @@ CONSTANTS = {
     ("mostkept.rules.rules", "MAX_COLUMNS"): 8, ("mostkept.rules.rules", "MAX_RULES"): 16,
     ("mostkept.orders.witnesses", "PROBLEMS"): ("labels", "row", "turn", "triangles"),
     ("mostkept.keeps.matchings", "MAX_PAIRS"): 200,
+    ("mostkept.hard.halves", "MAX_CONFLICTS"): 2000, ("mostkept.hard.halves", "MAX_CLUSTER"): 24,
+    ("mostkept.live.advice", "MAX_ADVISED"): 8,
+    ("mostkept.text.shell", "MAX_TABLES"): 20, ("mostkept.text.shell", "MAX_LEVELS"): 20,
 }
 GENERATORS = (("mostkept.base.rows", "pairs"), ("mostkept.tables.tables", "Table.where"),
               ("mostkept.tables.tables", "Table.where_by"), ("mostkept.rules.closures", "closed_sets"),
               ("mostkept.rules.covers", "keys"), ("mostkept.tables.conflicts", "conflicts"),
               ("mostkept.tables.conflicts", "keeps"), ("mostkept.tables.conflicts", "full_keeps"),
               ("mostkept.orders.chains", "chains"), ("mostkept.orders.witnesses", "witnesses"),
-              ("mostkept.keeps.matchings", "matchings"), ("mostkept.keeps.greatest", "steps_of"))
+              ("mostkept.keeps.matchings", "matchings"), ("mostkept.keeps.greatest", "steps_of"),
+              ("mostkept.keeps.best", "best_first"), ("mostkept.keeps.best", "loss_levels"),
+              ("mostkept.keeps.best", "Ranking.within"), ("mostkept.live.advice", "loose_selections"),
+              ("mostkept.live.advice", "loosening_sets"), ("mostkept.live.live", "Live.losses"))
 
 
 def class_of(place):
