@@ -263,6 +263,8 @@ class RankingTest(Case):
         found = ranking.within("5")
         self.raises(InvalidOperation, lambda: next(found))
         self.assertEqual(len(ranking), 0)
+        ranking.take(1000)
+        self.raises(InvalidOperation, lambda: next(ranking.within("5")))
         odds = Ranking(Table(("x",), scale=Scale.odds()), ONE)
         self.raises(InvalidOperation, lambda: next(odds.within(5)))
         self.assertEqual(list(odds.within((1, 1))), [()])
@@ -331,6 +333,22 @@ class PapersTest(Case):
         self.assertIs(is_ranking_paper(PLAN, TALKS, ("ranked", ((0, 2),), branches)), True)
         for wrong in ((0,), (2,), ()):
             self.assertIs(is_ranking_paper(PLAN, TALKS, ("ranked", (wrong,), {**branches, wish: wrong})), False)
+
+    def test_keeps_in_wrong_branches(self):
+        wish, none, alone = ((), ()), ((), (0,)), ((0,), (2,))
+        start = {wish: (0, 2), none: self.paper_of((1, 2, 3))}
+        # (0,) loses more than the best of the branch that is left.
+        late = {**start, alone: (0,), ((), (0, 2)): self.paper_of((1, 3))}
+        self.assertIs(is_ranking_paper(PLAN, TALKS, ("ranked", ((0, 2), (0,)), {**start, alone: (0,)})), False)
+        self.assertIs(is_ranking_paper(PLAN, TALKS, ("ranked", ((0, 2), (0,)), late)), False)
+        # (1, 3) does not follow the wish that has the row 0, although no row can be added to it.
+        wrong = {**start, alone: (1, 3), ((0,), (1, 2)): self.paper_of((0,)), ((0, 1), (2, 3)): self.paper_of(())}
+        self.assertIs(is_ranking_paper(PLAN, TALKS, ("ranked", ((0, 2), (1, 3)), wrong)), False)
+        # The same keep twice over, once in another order of its rows, and a keep that is none.
+        for keep in ((2, 0), (0, 0, 2), (0, 1), (0, 2, 3), (True, 2)):
+            other = {wish: keep, none: start[none], alone: self.paper_of((0,))}
+            self.assertIs(is_ranking_paper(PLAN, TALKS, ("ranked", (keep,), other)), False)
+        self.assertIs(is_ranking_paper(PLAN, TALKS, ("ranked", ((0, 2),), {**start, alone: self.paper_of((0,))})), True)
 
     def paper_of(self, rows):
         return keep_paper(PLAN.only(*rows), TALKS)

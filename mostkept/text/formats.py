@@ -42,7 +42,7 @@ def parse_table(text):
     lines = text.split("\n")
     columns = _read_behind("columns ", lines[0], read_names)
     scale = _read_behind("scale ", lines[1], read_scale) if len(lines) > 1 else None
-    if columns is None or scale is None:
+    if scale is None:
         raise ParseError("the text does not begin like that of a table")
     rows = []
     weights = []
@@ -201,6 +201,7 @@ def parse_keep_paper(scale, text):
     _check_scale(scale)
     _check_text(text)
     lines = text.split("\n")
+    # What was read is the paper of the text only if it has the form and is written just so.
     paper = ("keep", _read_behind("keep ", lines[0], read_indices), read_part(scale, lines[1:]))
     if not _is_keep_paper_form(scale, paper) or _write_keep_paper(scale, paper) != text:
         raise ParseError("the text is not that of a keep paper")

@@ -103,20 +103,20 @@ def _key_line(part, key):
 
 
 def read_part(scale, lines):
-    """Return a part of which some of the lines may tell, or None: it is sure only if just these lines are its own."""
+    """Return the part that lines tell if they are the lines of a part; otherwise anything that has other lines."""
     nodes = _nodes(lines)
     return _read_node(scale, nodes[0], MOST_DEEP) if len(nodes) == 1 else None
 
 
 def _nodes(lines):
-    """Return pairs of a line and such pairs for those that belong to it; no pairs if the blanks in front are wrong."""
+    """Return pairs of a line and such pairs for the lines that belong to it."""
     first = []
     # The lists of the pairs that stand below the last line, one for each number of blanks.
     open_lists = [first]
     for line in lines:
         text = line.lstrip(" ")
-        depth, odd = divmod(len(line) - len(text), 2)
-        if odd == 1 or depth >= len(open_lists):
+        depth = (len(line) - len(text)) // 2
+        if depth >= len(open_lists):
             return []
         below = []
         open_lists[depth].append((text, below))
@@ -125,7 +125,7 @@ def _nodes(lines):
 
 
 def _read_node(scale, node, deep):
-    """Return the part that a line and those below it tell, or None."""
+    """Return the part that a line and those below it tell."""
     text, below = node
     if deep == 0:
         return None
@@ -135,10 +135,7 @@ def _read_node(scale, node, deep):
     if word == "pair":
         return _read_pair(scale, text, below, deep)
     name, _, value = rest.partition(" ")
-    keyed = [(read_whole(_behind_word(line)), line, inner) for line, inner in below]
-    parts = _read_parts(scale, keyed, deep)
-    if parts is None or word not in ("common", "fixed"):
-        return None
+    parts = {read_whole(_behind_word(line)): _read_below(scale, inner, deep) for line, inner in below}
     return (word, name, parts) if word == "common" else (word, name, read_whole(value), parts)
 
 
@@ -146,46 +143,33 @@ def _behind_word(line):
     return line.partition(" ")[2]
 
 
-def _read_parts(scale, keyed, deep):
-    """Return a dict from keys to the parts below their lines, or None."""
-    found = {}
-    for key, _, inner in keyed:
-        part = _read_node(scale, inner[0], deep - 1) if len(inner) == 1 else None
-        if key is None or part is None:
-            return None
-        found[key] = part
-    return found
+def _read_below(scale, nodes, deep):
+    """Return the part that stands below the line of its key."""
+    return _read_node(scale, nodes[0], deep - 1) if len(nodes) == 1 else None
 
 
 def _read_pair(scale, text, below, deep):
     step = read_step(text)
-    prices = _read_prices(scale, below, "left")
-    others = _read_prices(scale, below, "other")
-    keyed = [(_read_key(line), line, inner) for line, inner in below if line.partition(" ")[0] in ("stays", "of")]
-    parts = _read_parts(scale, keyed, deep)
-    if step is None or prices is None or others is None or parts is None:
+    if step is None:
         return None
+    keyed = [(_read_key(line), line, inner) for line, inner in below if line.partition(" ")[0] in ("stays", "of")]
     pairs = tuple([key for key, line, _ in keyed if line.startswith("stays ")])
-    return step + (pairs, prices, others, parts)
+    parts = {key: _read_below(scale, inner, deep) for key, _, inner in keyed}
+    return step + (pairs, _read_prices(scale, below, "left"), _read_prices(scale, below, "other"), parts)
 
 
 def _read_key(line):
-    """Return the pair of values that a line tells, or None."""
+    """Return the pair of values that a line tells."""
     left, _, other = _behind_word(line).partition(" / ")
-    key = (read_values(left), read_values(other))
-    return None if key[0] is None or key[1] is None else key
+    return (read_values(left), read_values(other))
 
 
 def _read_prices(scale, below, word):
-    """Return the prices that the lines with this word tell, or None."""
+    """Return the prices that the lines with this word tell."""
     found = {}
     for line, _ in below:
         first, _, rest = line.partition(" ")
         if first == word:
             values, _, price = rest.partition(" = ")
-            key = read_values(values)
-            amount = read_amount(scale, price)
-            if key is None or amount is None:
-                return None
-            found[key] = amount
+            found[read_values(values)] = read_amount(scale, price)
     return found
