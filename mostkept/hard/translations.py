@@ -109,7 +109,7 @@ def first_greatest(problem, small):
     for index in range(len(small)):
         row = 1 << index
         if left & row > 0:
-            beside = search.left_beside(left, index)
+            beside = search.without_rivals(left & ~row, index)
             if small.scale.plus(small.amount_of(tuple(found) + (index,)), search.most(beside)) == most:
                 found.append(index)
                 left = beside
