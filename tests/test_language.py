@@ -140,6 +140,7 @@ class LanguageTest(unittest.TestCase):
             # The examples that other tests run leave a _ among the builtins.
             if node.id in vars(builtins) and node.id != "_":
                 self.assertIn(node.id, BUILTINS, place)
+                self.assertNotEqual(node.id, "reversed", place)
                 self.assertIsInstance(node.ctx, ast.Load, place)
         for place, node in [*functions(), *nodes(ast.ClassDef)]:
             self.assertFalse(node.name in vars(builtins), place)
@@ -194,6 +195,22 @@ class LanguageTest(unittest.TestCase):
             self.assertIsNotNone(node.type, place)
         for place, node in nodes(ast.Raise):
             self.assertTrue(node.exc is None or isinstance(node.exc, ast.Call) and isinstance(node.exc.func, ast.Name), place)
+
+    def test_only_own_errors_are_caught(self):
+        own = {node.name for path, tree in trees() if path.name == "errors.py" for node in tree.body if isinstance(node, ast.ClassDef)}
+        for place, node in nodes(ast.ExceptHandler):
+            names = node.type.elts if isinstance(node.type, ast.Tuple) else [node.type]
+            self.assertTrue(all(isinstance(one, ast.Name) and one.id in own for one in names), place)
+            self.assertIsNone(node.name, place)
+
+    def test_what_stands_at_the_end_of_a_block(self):
+        for place, node in functions():
+            if node.name == "__exit__":
+                for one in node.body:
+                    self.assertTrue(isinstance(one, ast.Assign) and isinstance(one.value, ast.Attribute), place)
+                    self.assertTrue(all(isinstance(target, ast.Attribute) for target in one.targets), place)
+            if is_generator(node):
+                self.assertFalse(any(isinstance(one, (ast.Try, ast.With)) for one in ast.walk(node)), place)
 
     def test_views_and_sets_are_used_on_the_spot(self):
         for place, node in nodes(ast.Assign):
